@@ -1,0 +1,71 @@
+"""What several tests share: values of all kinds, and what a nested tuple becomes if a part of it is exchanged."""
+
+from whilemoved import errors
+
+
+def nested(deep):
+    """A list within a list and so on, so many deep."""
+    thing = []
+    for _ in range(deep):
+        thing = [thing]
+    return thing
+
+
+def all_kinds():
+    """Values of all kinds, none of which is an integer, a tuple or a string without being meant to be wrong."""
+    deep_tuple = ()
+    for _ in range(20):
+        deep_tuple = (deep_tuple,)
+    return [
+        None, True, False, -1, 10 ** 39, -(10 ** 39), "?", "0", "needs", [], [0], [None], {}, {0: 1}, {None: (1,)},
+        nested(20), deep_tuple, ("",), (True,), (False,), ([],), ({},), (None, True), ((0, True),), ((False, 1),),
+        (((0, 1), [2, 3]),), [(0, 1)], [((0, 1),)], ("a", "b"), errors.Nothing(), errors.Wrong([1]), (errors.NotEven(),),
+    ]
+
+
+def with_part(thing, at, part):
+    return thing[:at] + (part,) + thing[at + 1:]
+
+
+def truths_for_integers(thing):
+    """All that come of a nested tuple if one 0 or 1 in it becomes False or True."""
+    if isinstance(thing, int) and not isinstance(thing, bool) and thing in (0, 1):
+        return [bool(thing)]
+    if not isinstance(thing, tuple):
+        return []
+    return [with_part(thing, at, other) for at, part in enumerate(thing) for other in truths_for_integers(part)]
+
+
+def lists_for_tuples(thing):
+    """All that come of a nested tuple if one tuple in it, or it itself, becomes a list."""
+    if not isinstance(thing, tuple):
+        return []
+    inner = [with_part(thing, at, other) for at, part in enumerate(thing) for other in lists_for_tuples(part)]
+    return [list(thing)] + inner
+
+
+def strings_for_integers(thing):
+    """All that come of a nested tuple if one integer in it becomes the string that shows it."""
+    if isinstance(thing, int):
+        return [str(thing)]
+    if not isinstance(thing, tuple):
+        return []
+    return [with_part(thing, at, other) for at, part in enumerate(thing) for other in strings_for_integers(part)]
+
+
+def of_other_kinds(thing):
+    return truths_for_integers(thing) + lists_for_tuples(thing) + strings_for_integers(thing)
+
+
+def raised(call, *given):
+    """The error of this package that a call raises, None if it raises none."""
+    try:
+        call(*given)
+    except errors.MoveError as error:
+        return error
+    return None
+
+
+def told_by(error):
+    """The class of an error and its fields."""
+    return type(error), vars(error)

@@ -1,0 +1,43 @@
+"""The interface: names, arguments and files, as the document lists them."""
+
+import importlib
+import inspect
+import unittest
+
+FUNCTIONS = {
+    "forms": """is_integer(thing) is_needs(thing) is_layout(needs, thing) is_right(needs, thing) is_task(thing)
+        is_lot(many, thing) is_stretch(many, thing) is_plan(many, thing)""",
+    "layouts": """standings(needs, layout) rooms(needs, layout) wrong_places(task) staying_places(task)
+        free_places(task) open_places(task) places_of(stretch) can_be_done(layout, stretch) does(task, plan)
+        led(layout, stretch) led_by(layout, plan) writes_of(plan)""",
+    "texts": "show_task(task) show_plan(plan)",
+    "reader": "read_task(text) read_plan(many, text)",
+}
+CLASSES = {}
+
+
+def split(listed):
+    """The tuples of a name and the names of its arguments."""
+    rows = [row.split("(") for row in " ".join(listed.split()).split(")")[:-1]]
+    return [(name.strip(), [word for word in given.split(", ") if word]) for name, given in rows]
+
+
+class Interface(unittest.TestCase):
+    def test_functions(self):
+        for module, listed in FUNCTIONS.items():
+            for name, given in split(listed):
+                found = getattr(importlib.import_module("whilemoved." + module), name)
+                self.assertEqual(found.__module__, "whilemoved." + module)
+                self.assertEqual(list(inspect.signature(found).parameters), given, name)
+
+    def test_classes(self):
+        for (module, name), listed in CLASSES.items():
+            found = getattr(importlib.import_module("whilemoved." + module), name)
+            self.assertEqual(found.__module__, "whilemoved." + module)
+            for method, given in split(listed):
+                self.assertIn(method, vars(found))
+                self.assertEqual(list(inspect.signature(vars(found)[method]).parameters), ["self"] + given, method)
+
+
+if __name__ == "__main__":
+    unittest.main()
