@@ -1,6 +1,9 @@
-"""What several tests share: values of all kinds, and what a nested tuple becomes if a part of it is exchanged."""
+"""What several tests share: values of all kinds, exchanged parts of nested tuples, small tasks, deeds and errors."""
+
+import itertools
 
 from whilemoved import errors
+from whilemoved.forms import is_stretch
 
 
 def nested(deep):
@@ -12,14 +15,15 @@ def nested(deep):
 
 
 def all_kinds():
-    """Values of all kinds, none of which is an integer, a tuple or a string without being meant to be wrong."""
+    """Values of all kinds, alone and nested. Few of them are right for anything."""
     deep_tuple = ()
     for _ in range(20):
         deep_tuple = (deep_tuple,)
     return [
         None, True, False, -1, 10 ** 39, -(10 ** 39), "?", "0", "needs", [], [0], [None], {}, {0: 1}, {None: (1,)},
         nested(20), deep_tuple, ("",), (True,), (False,), ([],), ({},), (None, True), ((0, True),), ((False, 1),),
-        (((0, 1), [2, 3]),), [(0, 1)], [((0, 1),)], ("a", "b"), errors.Nothing(), errors.Wrong([1]), (errors.NotEven(),),
+        (((0, 1), [2, 3]),), [(0, 1)], [((0, 1),)], ("a", "b"), errors.Nothing(), errors.Wrong([1]),
+        (errors.NotEven(),), "x" * 3000, [0] * 3000, ("",) * 3000,
     ]
 
 
@@ -55,6 +59,34 @@ def strings_for_integers(thing):
 
 def of_other_kinds(thing):
     return truths_for_integers(thing) + lists_for_tuples(thing) + strings_for_integers(thing)
+
+
+def small_tasks(most):
+    """All tasks with some needs, and so many places at the most."""
+    found = []
+    for needs in ((), (1,), (2,), (1, 1), (2, 1), (1, 1, 1)):
+        for many in range(most + 1):
+            rows = list(itertools.product((None,) + tuple(range(len(needs))), repeat=many))
+            rows = [row for row in rows if all(row.count(value) >= need for value, need in enumerate(needs))]
+            found.extend([(needs, old, wish) for old in rows for wish in rows])
+    return found
+
+
+TASKS = small_tasks(4)
+
+
+def stretches(many):
+    """All stretches of at most two copies, of so many places."""
+    pairs = list(itertools.product(range(many), repeat=2))
+    found = [(pair,) for pair in pairs] + list(itertools.combinations(pairs, 2))
+    return [stretch for stretch in found if is_stretch(many, stretch)]
+
+
+def done(store, *deeds):
+    """The store behind some deeds, each told by its name and what it is given."""
+    for name, *given in deeds:
+        getattr(store, name)(*given)
+    return store
 
 
 def raised(call, *given):

@@ -12,8 +12,21 @@ FUNCTIONS = {
         led(layout, stretch) led_by(layout, plan) writes_of(plan)""",
     "texts": "show_task(task) show_plan(plan)",
     "reader": "read_task(text) read_plan(many, text)",
+    "parts": """arrows_of(task) parts_of(task) closed_parts(task) open_parts(task) values_in(task, part)
+        places_with_room(task) counts_of(task) rounds_of(task, part) is_even(task) spare_many(task)""",
+    "changes": """renamed(task, values, places) beside(one, other) turned(task) with_spare(task, many)
+        without_part(task, index)""",
+    "views": """going_on(store) whole_places(store) lost_places(store) readers(store, value) untold(store)
+        left_to_write(store) shown(store) lost_of(store, value)""",
+    "judge": """left_standings(needs, layout, stretch) is_safe(needs, layout, stretch) is_safe_plan(task, thing)
+        first_unsafe(task, plan) borne_losses(task, plan)""",
+    "lookalikes": """lookalike(needs, layout, stretch) first_lookalike(task, plan)
+        is_lookalike(needs, layout, stretch, thing)""",
 }
-CLASSES = {}
+CLASSES = {
+    ("store", "Store"): """__init__(task, plan) __eq__(other) write(place) spoil(place) cut() lose(place) mark() turn()
+        undo() twin()""",
+}
 
 
 def split(listed):

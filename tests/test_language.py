@@ -43,7 +43,8 @@ def trees():
 
 
 def defined(tree):
-    return [row.name for row in tree.body if isinstance(row, (ast.FunctionDef, ast.ClassDef))]
+    names = [row.name for row in tree.body if isinstance(row, (ast.FunctionDef, ast.ClassDef))]
+    return names + [target.id for row in tree.body if isinstance(row, ast.Assign) for target in row.targets]
 
 
 class Language(unittest.TestCase):
