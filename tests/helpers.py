@@ -1,9 +1,12 @@
 """What several tests share: values of all kinds, exchanged parts of nested tuples, small tasks, deeds and errors."""
 
+import functools
 import itertools
 
 from whilemoved import errors
 from whilemoved.forms import is_stretch
+from whilemoved.judge import is_safe
+from whilemoved.layouts import can_be_done, led
 
 
 def nested(deep):
@@ -75,11 +78,90 @@ def small_tasks(most):
 TASKS = small_tasks(4)
 
 
+def by_start():
+    """The tasks of TASKS as a dict from (needs, old) to the wishes."""
+    found = {}
+    for needs, old, wish in TASKS:
+        found.setdefault((needs, old), []).append(wish)
+    return found
+
+
+def even_tasks(needs, spare):
+    """All even tasks whose old has the values one behind the other, and then so many open places."""
+    old = tuple(value for value, need in enumerate(needs) for _ in range(need))
+    wishes = sorted(set(itertools.permutations(old)))
+    return [(needs, old + (None,) * spare, wish + (None,) * spare) for wish in wishes]
+
+
+UNEVEN = [
+    ((1, 1), (0, 1, 1), (1, 0, None)), ((1,), (0, None), (0, 0)), ((1,), (0, None), (None, 0)),
+    ((2,), (0, 0, 0), (0, 0, 0)),
+]
+
+
 def stretches(many):
     """All stretches of at most two copies, of so many places."""
     pairs = list(itertools.product(range(many), repeat=2))
     found = [(pair,) for pair in pairs] + list(itertools.combinations(pairs, 2))
     return [stretch for stretch in found if is_stretch(many, stretch)]
+
+
+@functools.lru_cache(None)
+def all_stretches(many):
+    """All stretches of so many places."""
+    found = []
+    for size in range(1, many):
+        for places in itertools.combinations(range(many), size):
+            rest = [place for place in range(many) if place not in places]
+            found.extend([tuple(zip(places, row)) for row in itertools.product(rest, repeat=size)])
+    return found
+
+
+@functools.lru_cache(None)
+def safe_stretches(needs, layout):
+    """All stretches that can be done, and are safe, at a layout."""
+    found = [stretch for stretch in all_stretches(len(layout)) if can_be_done(layout, stretch)]
+    return [stretch for stretch in found if is_safe(needs, layout, stretch)]
+
+
+@functools.lru_cache(None)
+def safe_steps(needs, layout):
+    """The dict from each layout to which a safe stretch leads to the fewest copies of such a stretch."""
+    found = {}
+    for stretch in safe_stretches(needs, layout):
+        after = led(layout, stretch)
+        found[after] = min(len(stretch), found.get(after, len(stretch)))
+    return found
+
+
+@functools.lru_cache(None)
+def searched(needs, old):
+    """For each k the dict from each layout to which safe stretches lead, at most k, to the fewest copies of them.
+
+    All safe plans are gone through. The last dict holds for each greater k, too.
+    """
+    found, ahead = [{old: 0}], {}
+    while ahead != found[-1]:
+        ahead = found[-1]
+        best = dict(ahead)
+        for layout, writes in ahead.items():
+            for after, more in safe_steps(needs, layout).items():
+                best[after] = min(writes + more, best.get(after, writes + more))
+        found.append(best)
+    return found
+
+
+def fewest_searched(task, k):
+    """The fewest writes of all safe plans of a task with at most k stretches, None if there is none."""
+    needs, old, wish = task
+    found = searched(needs, old)
+    fitting = [
+        writes for layout, writes in found[min(k, len(found) - 1)].items()
+        if all(item in (None, there) for item, there in zip(wish, layout))]
+    return min(fitting, default=None)
+
+
+MANY = 99
 
 
 def done(store, *deeds):

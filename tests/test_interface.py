@@ -22,6 +22,20 @@ FUNCTIONS = {
         first_unsafe(task, plan) borne_losses(task, plan)""",
     "lookalikes": """lookalike(needs, layout, stretch) first_lookalike(task, plan)
         is_lookalike(needs, layout, stretch, thing)""",
+    "rows": """is_row(needs, layout, thing) is_whole_run(needs, layout, row, begin, end)
+        is_row_paper(needs, layout, row, thing) cut_row(needs, layout, row) row_paper(needs, layout, row)""",
+    "writes": "has_plan(task) needs_one_more(task) fewest_writes(task)",
+    "fewest": "fewest_plan(task) can_begin(task)",
+    "asides": "asides_of(task, plan) aside_paper(task, plan) is_aside_paper(task, plan, thing)",
+    "groups": """places_taken(task, group, k) grouping_writes(task, grouping, k) fits_within(task, grouping, k)
+        is_grouping(task, thing) best_grouping(task, k)""",
+    "fronts": "writes_within(task, k) fewest_stretches(task) front(task)",
+    "groupplans": "plan_within(task, k) token_rows(task, plan) is_token_rows(task, plan, thing)",
+    "once": "over_tails(task) can_once(task) once_plan(task)",
+    "charging": """fills_of(task) bearing(task, fill) charging(task) is_charging(task, thing) can_twice(task)
+        twice_plan(task)""",
+    "bars": "bar_of(task, fill) is_bar(task, fill, thing) bars_of(task)",
+    "sides": "least_stretches(task) short_plan(task) is_met(task)",
 }
 CLASSES = {
     ("store", "Store"): """__init__(task, plan) __eq__(other) write(place) spoil(place) cut() lose(place) mark() turn()

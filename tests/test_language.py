@@ -11,7 +11,7 @@ BUILTINS = (
     "len range enumerate zip min max sum abs sorted reversed int str bool list tuple dict isinstance ord repr any all "
     "divmod ValueError"
 ).split()
-METHODS = "append count extend index join partition pop split".split()
+METHODS = "append count extend get index items join partition pop split values".split()
 WORDS = (
     "type typing typing_extensions enum Enum IntEnum StrEnum Flag IntFlag Generic Protocol ABC ABCMeta namedtuple "
     "NamedTuple TypedDict TYPE_CHECKING abstractmethod"

@@ -39,15 +39,17 @@ def is_lot(many, thing):
     return all([thing[at] < thing[at + 1] for at in range(len(thing) - 1)])
 
 
-def is_copy(many, thing):
-    """Whether thing is a tuple of two places less than many."""
-    return isinstance(thing, tuple) and len(thing) == 2 and is_below(many, thing[0]) and is_below(many, thing[1])
+def is_pair(one_many, other_many, thing):
+    """Whether thing is a tuple of two integers from 0 on, each less than its own bound."""
+    if not isinstance(thing, tuple) or len(thing) != 2:
+        return False
+    return is_below(one_many, thing[0]) and is_below(other_many, thing[1])
 
 
 def is_stretch(many, thing):
     if not isinstance(thing, tuple) or len(thing) == 0:
         return False
-    if not all([is_copy(many, copy) for copy in thing]):
+    if not all([is_pair(many, many, copy) for copy in thing]):
         return False
     # That no source is one of the places also bars a copy from a place to itself.
     places = tuple([copy[0] for copy in thing])

@@ -49,6 +49,13 @@ def led(layout, stretch):
     return tuple(after)
 
 
+def stretch_writing(layout, wanted):
+    """The stretch that writes the values that a dict has for places, each one from the least place outside."""
+    outside = [source for source in range(len(layout)) if source not in wanted]
+    return tuple([
+        (place, [source for source in outside if layout[source] == wanted[place]][0]) for place in sorted(wanted)])
+
+
 def layouts_along(layout, plan):
     """The list of the layouts ahead of each stretch of a plan, and of the one behind the last."""
     layouts = [layout]
@@ -73,3 +80,9 @@ def does(task, plan):
 
 def writes_of(plan):
     return sum([len(stretch) for stretch in plan])
+
+
+def values_written(layout, plan):
+    """The dict from each write of a plan, told by (index, place), to the value that it writes."""
+    layouts = layouts_along(layout, plan)
+    return {(index, place): layouts[index][source] for index, stretch in enumerate(plan) for place, source in stretch}
