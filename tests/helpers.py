@@ -124,6 +124,16 @@ def safe_stretches(needs, layout):
     return [stretch for stretch in found if is_safe(needs, layout, stretch)]
 
 
+def safe_plans(task, most):
+    """All safe plans of so many stretches at the most, also those that write more than is needed."""
+    needs, old, wish = task
+    found = [()] if all(item in (None, there) for item, there in zip(wish, old)) else []
+    if most > 0:
+        for stretch in safe_stretches(needs, old):
+            found.extend([(stretch,) + plan for plan in safe_plans((needs, led(old, stretch), wish), most - 1)])
+    return found
+
+
 @functools.lru_cache(None)
 def safe_steps(needs, layout):
     """The dict from each layout to which a safe stretch leads to the fewest copies of such a stretch."""

@@ -3,14 +3,14 @@
 import itertools
 import unittest
 
-from tests.helpers import TASKS, all_kinds, of_other_kinds, raised, safe_stretches, told_by
+from tests.helpers import TASKS, all_kinds, of_other_kinds, raised, safe_plans, told_by
 from tests.test_writes import STAYS
 from whilemoved.asides import aside_paper, asides_of, is_aside_paper
 from whilemoved.changes import beside
 from whilemoved.errors import CannotDo, NotDone, NotSafe, Nothing
 from whilemoved.fewest import fewest_plan
 from whilemoved.judge import is_safe_plan
-from whilemoved.layouts import led, led_by, places_of, staying_places, writes_of, wrong_places
+from whilemoved.layouts import led_by, places_of, staying_places, writes_of, wrong_places
 from whilemoved.parts import closed_parts, counts_of, places_with_room
 from whilemoved.writes import needs_one_more
 
@@ -19,16 +19,6 @@ PLAN = (((2, 0),), ((0, 1),), ((1, 2),))
 BACK = (((3, 0),), ((0, 1),), ((1, 3),), ((3, 2),))
 TWO = ((1,) * 4, (0, 1, 2, 3, None), (1, 0, 3, 2, None))
 TWO_PLAN = (((4, 0),), ((0, 1),), ((1, 4),), ((4, 2),), ((2, 3),), ((3, 4),))
-
-
-def plans_of(task, most):
-    """All safe plans of so many stretches at the most."""
-    needs, old, wish = task
-    found = [()] if all(item in (None, there) for item, there in zip(wish, old)) else []
-    if most > 0:
-        for stretch in safe_stretches(needs, old):
-            found.extend([(stretch,) + plan for plan in plans_of((needs, led(old, stretch), wish), most - 1)])
-    return found
 
 
 def asides_by_the_definition(task, plan):
@@ -59,8 +49,8 @@ def papers_by_the_definition(task, plan):
     return rows, backs
 
 
-SMALL = [(task, plan) for task in TASKS if closed_parts(task) for plan in plans_of(task, 3)[:40]]
-SMALL.extend([(STAYS, plan) for plan in plans_of(STAYS, 5)])
+SMALL = [(task, plan) for task in TASKS if closed_parts(task) for plan in safe_plans(task, 3)[:40]]
+SMALL.extend([(STAYS, plan) for plan in safe_plans(STAYS, 5)])
 
 
 class Errors(unittest.TestCase):
@@ -160,6 +150,22 @@ class Papers(unittest.TestCase):
             self.assertIs(is_aside_paper(STAYS, BACK, (((0, 3),), more)), False, more)
         self.assertIs(is_aside_paper(TASK, PLAN, (((0, 2),), (0, 2))), False)
         self.assertIs(is_aside_paper(TASK, PLAN, (((0, 2),), ())), False)
+
+    def test_each_part_has_its_own(self):
+        self.assertIs(is_aside_paper(TWO, TWO_PLAN, (((0, 4), (3, 4)), None)), True)
+        for writes in (((0, 4), (0, 4)), ((3, 4), (3, 4)), ((0, 4), (2, 1)), ((1, 0), (3, 4))):
+            self.assertIs(is_aside_paper(TWO, TWO_PLAN, (writes, None)), False, writes)
+
+    def test_a_source_that_is_free(self):
+        task, plan = ((1, 1, 1), (0, 1, 2, 2), (1, 0, 2, None)), (((2, 3),), ((3, 0),), ((0, 1),), ((1, 3),))
+        self.assertEqual(asides_of(task, plan), [(0, 2), (1, 3)])
+        self.assertEqual(aside_paper(task, plan), (((1, 3),), None))
+
+    def test_more_is_not_at_a_place_that_stays_without_room(self):
+        task = ((1,) * 4, (0, 1, 2, 3, 3), (1, 0, 2, 3, 3))
+        plan = (((3, 2),), ((2, 0),), ((0, 1),), ((1, 2),), ((2, 3),), ((3, 4),))
+        self.assertEqual(aside_paper(task, plan), (((1, 2),), (5, 3)))
+        self.assertIs(is_aside_paper(task, plan, (((1, 2),), (4, 2))), False)
 
     def test_small_tasks(self):
         mores = 0

@@ -200,6 +200,11 @@ class IsCharging(unittest.TestCase):
         for fill in bad:
             self.check(task, (fill, {}), False)
 
+    def test_no_more_than_the_places_that_hold_a_value(self):
+        task = ((1,), (0, 0, 0), (0, 0, None))
+        self.check(task, ({0: 1}, {}), True)
+        self.check(task, ({0: 2}, {}), False)
+
     def test_charges(self):
         self.check(WIDE, ({}, {0: "pool", 1: "pool"}), True)
         self.check(WIDE, ({}, {1: "pool", 0: "pool"}), True)
@@ -271,6 +276,18 @@ class Plans(unittest.TestCase):
             self.check(task, True)
         for task in (SMALL, ((1, 1), (0, 1), (1, 0))):
             self.check(task, False)
+
+    def test_no_more_places_are_filled_than_the_charging_tells(self):
+        tasks = [
+            ((1, 1, 1, 2), (0, 3, 2, 3, 3, 0, 1, 0), (None, 0, 1, 3, None, None, 2, 3)),
+            ((2, 1, 1, 2), (3, 3, 1, 2, 2, 0, 1, 2, 0), (0, 3, None, None, 1, 0, None, 2, 3)),
+            ((1, 1, 1, 1), (1, 2, 1, 1, 3, 1, 0, 1, 3), (1, None, None, None, 2, None, 3, None, 0)),
+            ((2, 1, 2), (2, 1, 0, 1, 0, None, 2), (None, 1, 0, None, 2, 2, 0)),
+        ]
+        for task in tasks:
+            self.check(task, True)
+            self.assertIn("pool", charging(task)[1].values())
+            self.assertNotEqual(charging(task)[0], {})
 
     def test_places_that_are_filled(self):
         task = ((1,) * 3, (0, 0, 0, 1, 2), (0, None, None, 2, 1))

@@ -4,7 +4,7 @@ import itertools
 import unittest
 
 from tests.helpers import (
-    MANY, UNEVEN, all_kinds, even_tasks, fewest_searched, of_other_kinds, raised, safe_stretches, told_by,
+    MANY, UNEVEN, all_kinds, even_tasks, fewest_searched, of_other_kinds, raised, safe_plans, told_by,
 )
 from tests.test_groups import rings
 from whilemoved.errors import NotEven, Nothing
@@ -13,7 +13,7 @@ from whilemoved.fronts import writes_within
 from whilemoved.groupplans import is_token_rows, plan_within, token_rows
 from whilemoved.groups import best_grouping, places_taken
 from whilemoved.judge import is_safe_plan
-from whilemoved.layouts import layouts_along, led, writes_of
+from whilemoved.layouts import layouts_along, writes_of
 
 SMALL = ((1, 1), (0, 1, None), (1, 0, None))
 PAIR = ((1, 1), (0, 1, None, None), (1, 0, None, None))
@@ -38,16 +38,6 @@ def rows_by_the_definition(task, plan, thing):
                 return False
             expected, ahead = layouts[index][dict(plan[index])[place]], index
     return True
-
-
-def walks(task, most):
-    """All safe plans of at most so many stretches, also those that write more than is needed."""
-    needs, old, wish = task
-    found = [()] if all(item in (None, there) for item, there in zip(wish, old)) else []
-    if most > 0:
-        for stretch in safe_stretches(needs, old):
-            found.extend([(stretch,) + plan for plan in walks((needs, led(old, stretch), wish), most - 1)])
-    return found
 
 
 class Plans(unittest.TestCase):
@@ -89,6 +79,12 @@ class Plans(unittest.TestCase):
                         seen += 1
         self.assertGreater(seen, 30)
 
+    def test_a_round_that_takes_more_rows_than_two(self):
+        # The second round begins at the end of a row, takes another one whole, and a third part is done behind it.
+        for sizes, spare, k in (((6, 6, 2), 4, 5), ((8, 8, 2), 4, 6), ((7, 8, 3), 4, 6)):
+            self.assertEqual(best_grouping(rings(sizes, spare), k), ((0, 1, 2),))
+            self.check(rings(sizes, spare), (k,))
+
     def test_needs_above_one(self):
         for needs, spare in (((2, 2, 2), 2), ((3, 2, 1), 1), ((4, 2), 3)):
             for task in even_tasks(needs, spare)[::7]:
@@ -127,7 +123,7 @@ class TokenRows(unittest.TestCase):
         tasks = [rings((), 1), rings((), 2), SMALL, PAIR, ((1,), (0, None), (0, None))]
         tasks.extend([((1,), (0, None, None), (0, None, None)), ((2,), (0, None, 0), (0, None, 0))])
         for task in tasks:
-            for plan in walks(task, 3):
+            for plan in safe_plans(task, 3):
                 self.check(task, plan)
                 seen += 1
         self.assertGreater(seen, 200)

@@ -124,7 +124,7 @@ class Best(unittest.TestCase):
         seen = {True: 0, False: 0}
         for task in TASKS:
             groupings = all_groupings(len(parts_of(task)))
-            for k in (2, 3, 4, 5, 7, 9, 30):
+            for k in (2, 3, 4, 5, 6, 7, 9, 30):
                 fitting = [grouping for grouping in groupings if fits_within(task, grouping, k)]
                 best = best_grouping(task, k)
                 seen[len(fitting) > 0] += 1
@@ -142,6 +142,12 @@ class Best(unittest.TestCase):
         self.assertEqual(best_grouping(rings((2, 2, 2), 1), 9), ((0, 1, 2),))
         self.assertEqual(best_grouping(rings((2, 2), 2), 3), ((0,), (1,)))
         self.assertEqual(best_grouping(rings((2, 4, 2), 2), 6), ((0, 2), (1,)))
+
+    def test_not_the_first_one_that_fits_and_not_the_one_with_the_most_in_a_group(self):
+        task = rings((2, 2, 3, 3), 3)
+        self.assertIs(fits_within(task, ((0, 2, 3), (1,)), 6), True)
+        self.assertEqual(grouping_writes(task, ((0, 2, 3), (1,)), 6), 15)
+        self.assertEqual(grouping_writes(task, best_grouping(task, 6), 6), 14)
 
     def test_the_bounds(self):
         eight = rings((2,) * 8, 3)

@@ -121,6 +121,17 @@ class Language(unittest.TestCase):
                 if isinstance(node, ast.Call) and isinstance(node.func, ast.Attribute):
                     self.assertIn(node.func.attr, METHODS + own, (name, node.lineno))
 
+    def test_views_are_iterated_on_the_spot(self):
+        for name, tree in trees():
+            good = [node.iter for node in ast.walk(tree) if isinstance(node, (ast.For, ast.comprehension))]
+            calls = [node for node in ast.walk(tree) if isinstance(node, ast.Call) and isinstance(node.func, ast.Name)]
+            calls = [node for node in calls if node.func.id in ("list", "tuple", "sorted")]
+            good.extend([given for node in calls for given in node.args[:1]])
+            for node in ast.walk(tree):
+                if isinstance(node, ast.Call) and isinstance(node.func, ast.Attribute):
+                    if node.func.attr in ("items", "keys", "values"):
+                        self.assertIn(node, good, (name, node.lineno))
+
     def test_words(self):
         for name, _ in trees():
             text = source(name)

@@ -22,16 +22,19 @@ def is_last(plan, index, place):
     return not any([place in places_of(stretch) for stretch in plan[index + 1:]])
 
 
+def writes_in(plan):
+    return [(index, place) for index, stretch in enumerate(plan) for place in places_of(stretch)]
+
+
 def last_writes(plan):
-    writes = [(index, place) for index, stretch in enumerate(plan) for place in places_of(stretch)]
-    return [(index, place) for index, place in writes if is_last(plan, index, place)]
+    return [(index, place) for index, place in writes_in(plan) if is_last(plan, index, place)]
 
 
 def asides_of(task, plan):
     check_safe(task, plan)
     wrong = wrong_places(task)
     needed = [(index, place) for index, place in last_writes(plan) if place in wrong]
-    return [write for write in values_written(task[1], plan) if write not in needed]
+    return [write for write in writes_in(plan) if write not in needed]
 
 
 def asides_for(task, plan, part):

@@ -36,7 +36,7 @@ def bearing(task, fill):
         filled = fill.get(value, 0)
         tails[value] = before[value] - filled
         heads[value] = behind[value] + held.count(value) - filled
-    return (tails, heads, held.count(None) + sum(fill.values()))
+    return (tails, heads, held.count(None) + sum([fill[value] for value in fill]))
 
 
 def charged_places(task):

@@ -16,15 +16,15 @@ def is_nearer(task, place, value):
     return fewest_writes(written(task, place, value)) + 1 == fewest_writes(task)
 
 
-def sources_of(task, place, value):
-    """The places other than this one from which a value can be copied."""
-    return [source for source, item in enumerate(task[1]) if item == value and source != place]
+def sources_of(task, value):
+    return [source for source, item in enumerate(task[1]) if item == value]
 
 
 def nearer_copies(task, place):
     needs = task[0]
     fitting = [value for value in range(len(needs)) if is_nearer(task, place, value)]
-    return sorted([(place, source) for value in fitting for source in sources_of(task, place, value)])
+    # None of these values stands at the place already: no place is its own source.
+    return sorted([(place, source) for value in fitting for source in sources_of(task, value)])
 
 
 def can_begin(task):
@@ -50,6 +50,6 @@ def fewest_plan(task):
     plan, left = [], task
     while len(wrong_places(left)) > 0:
         place, value = first_write(left)
-        plan.append(((place, sources_of(left, place, value)[0]),))
+        plan.append(((place, sources_of(left, value)[0]),))
         left = written(left, place, value)
     return tuple(plan)

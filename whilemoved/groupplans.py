@@ -111,8 +111,8 @@ def is_row_of_writes(task, plan, thing):
     return isinstance(thing, tuple) and all([is_pair(len(plan), len(task[1]), write) for write in thing])
 
 
-def goes_on(layouts, written, row, at):
-    """Whether a write of a row, by its index in it, comes behind the one ahead of it, and takes over its value."""
+def takes_over(layouts, written, row, at):
+    """Whether a write, by its index in a row, comes behind the one ahead of it, at a place with what that one wrote."""
     index, place = row[at]
     if at == 0:
         return layouts[index][place] is None
@@ -128,4 +128,4 @@ def is_token_rows(task, plan, thing):
     layouts, written = layouts_along(task[1], plan), values_written(task[1], plan)
     if sorted([write for row in thing for write in row]) != list(written):
         return False
-    return all([goes_on(layouts, written, row, at) for row in thing for at in range(len(row))])
+    return all([takes_over(layouts, written, row, at) for row in thing for at in range(len(row))])

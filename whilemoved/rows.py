@@ -2,7 +2,7 @@
 
 from whilemoved.forms import is_pair, is_stretch
 from whilemoved.judge import is_safe
-from whilemoved.layouts import can_be_done, led, led_by
+from whilemoved.layouts import can_be_done, layouts_along, led
 
 
 def is_done_safely(needs, layout, thing):
@@ -25,17 +25,26 @@ def stretch_of(copies):
     return tuple(sorted(copies))
 
 
+def layouts_within(layout, row):
+    """The layouts ahead of each copy of a row, and the one behind the last."""
+    return layouts_along(layout, tuple([(copy,) for copy in row]))
+
+
+def is_whole_at(needs, layouts, row, begin, end):
+    """Whether a run is whole, layouts being those within the row."""
+    return is_done_safely(needs, layouts[begin], stretch_of(row[begin:end]))
+
+
 def is_whole_run(needs, layout, row, begin, end):
-    ahead = led_by(layout, tuple([(copy,) for copy in row[:begin]]))
-    return is_done_safely(needs, ahead, stretch_of(row[begin:end]))
+    return is_whole_at(needs, layouts_within(layout, row), row, begin, end)
 
 
 def longest_runs(needs, layout, row):
     """The runs into which a row falls if each, from the left, is whole and as long as can be."""
-    runs, begin = [], 0
+    layouts, runs, begin = layouts_within(layout, row), [], 0
     for end in range(1, len(row)):
         # All that lies within a whole run is whole: behind the first copy too many there is no longer run.
-        if not is_whole_run(needs, layout, row, begin, end + 1):
+        if not is_whole_at(needs, layouts, row, begin, end + 1):
             runs.append((begin, end))
             begin = end
     if len(row) > 0:
@@ -66,4 +75,5 @@ def is_row_paper(needs, layout, row, thing):
     for at, other in enumerate(thing):
         if not all([follow(one, other) for one in thing[:at]]):
             return False
-    return not any([is_whole_run(needs, layout, row, begin, end) for begin, end in thing])
+    layouts = layouts_within(layout, row)
+    return not any([is_whole_at(needs, layouts, row, begin, end) for begin, end in thing])
