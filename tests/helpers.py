@@ -2,8 +2,10 @@
 
 import functools
 import itertools
+import random
 
 from whilemoved import errors
+from whilemoved.changes import beside, renamed
 from whilemoved.forms import is_stretch
 from whilemoved.judge import is_safe
 from whilemoved.layouts import can_be_done, led
@@ -172,6 +174,50 @@ def fewest_searched(task, k):
 
 
 MANY = 99
+
+
+# Closed parts, open ones, values that stay with and without room, free and open places, of needs of 1 first.
+PIECES = [
+    ((1, 1), (0, 1), (1, 0)), ((1, 1), (0, 1), (1, 0)), ((1, 1, 1), (0, 1, 2), (1, 2, 0)), ((1,), (0, 0), (0, 0)),
+    ((1,), (0,), (0,)), ((1,), (0, None), (0, 0)), ((1,), (0, None), (None, 0)), ((1,), (0, 0), (0, None)),
+    ((1, 1), (0, 0, 1), (1, 0, 1)), ((1, 1), (0, 1, 0), (1, 0, 0)), ((1, 1), (0, 1, 0), (1, 0, 1)),
+    ((1, 1, 1), (0, 0, 1, 2), (2, 1, 0, 2)), ((), (None,), (None,)),
+]
+WIDE_PIECES = PIECES + [
+    ((2, 1), (0, 0, 1), (0, 1, 0)), ((2, 2), (0, 0, 1, 1), (0, 1, 1, 0)), ((2, 1), (0, 0, 1, None), (0, None, 1, 0)),
+    ((2, 1, 1), (0, 0, 1, 2, 0), (0, 1, 0, 2, 0)), ((2, 1, 1), (0, 0, 1, 2), (1, 2, 0, 0)),
+    ((3, 1), (0, 1, 0, 0), (1, 0, 0, 0)), ((2,), (0, 0, 0), (0, 0, 0)), ((2, 2), (0, 0, 1, 1), (1, 1, 0, 0)),
+]
+
+
+def composed(seed, many, pieces, places, values):
+    """So many tasks made of pieces, of at most so many places and values, always the same for a seed."""
+    chance, found = random.Random(seed), []
+    while len(found) < many:
+        task = ((), (), ())
+        for _ in range(chance.randint(1, 6)):
+            task = beside(task, chance.choice(pieces))
+        if len(task[0]) <= values and len(task[1]) <= places:
+            rows = [list(range(len(task[0]))), list(range(len(task[1])))]
+            for row in rows:
+                chance.shuffle(row)
+            found.append(renamed(task, tuple(rows[0]), tuple(rows[1])))
+    return found
+
+
+def single_writes(needs, layout):
+    """The layouts to which a copy alone, that is safe, leads, each with the place that is written."""
+    found = []
+    for place, item in enumerate(layout):
+        if item is None or layout.count(item) > needs[item]:
+            for value in range(len(needs)):
+                if value != item:
+                    found.append((place, with_part(layout, place, value)))
+    return found
+
+
+def fitting(wish, layout):
+    return all(item in (None, there) for item, there in zip(wish, layout))
 
 
 def done(store, *deeds):

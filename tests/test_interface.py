@@ -36,11 +36,41 @@ FUNCTIONS = {
         twice_plan(task)""",
     "bars": "bar_of(task, fill) is_bar(task, fill, thing) bars_of(task)",
     "sides": "least_stretches(task) short_plan(task) is_met(task)",
+    "ranks": """rank_of(prime, forms) factors_for(prime, forms, form) tells_all(prime, many, layout, lot)
+        is_linear_task(thing) led_forms(prime, layout, stretch) wrong_forms(task)""",
+    "sumplans": """own_form(many, value) forms_of(many, layout) sum_form(prime, many, layout, some)
+        led_by_sums(prime, many, layout, plan) as_sums(plan) is_sums(prime, places, thing)
+        is_reading(prime, many, layout, lot, r, thing) is_sum_plan(prime, task, r, thing)
+        reading(prime, many, layout, lot, r)""",
+    "fewsums": "fewest_sum_writes(task, r) sum_plan(prime, task, r)",
+    "openings": """asides(task, plan) openings(task, plan) opened_rows(prime, task, r, plan)
+        is_opened_rows(prime, task, r, plan, thing)""",
+    "twolots": "parting_lots(task) barring_lot(task) two_plan(task) is_parting(task, thing) is_barring(task, thing)",
+    "fullplans": """is_linear_plan(task, most, thing) fewest_linear(task, most) linear_plan(task, most)
+        linear_front(task)""",
+    "losses": "borne(prime, many, layout, lot) breaking_lot(prime, many, layout, lot)",
+    "prices": """price_of(plan, prices) least_price(task, prices) price_parts(task, prices)
+        cheapest_plan(task, prices)""",
+    "wear": """wear_of(plan) least_wear(task) even_plan(task) fits(sizes, layout) can_come(task, sizes)
+        lacking_size(task, sizes)""",
+    "anew": """can_change(needs, layout, value) is_fit(needs, layout, value, thing) changed(needs, layout, value)
+        changed_one_by_one(needs, layout, values)""",
+    "fromhere": """layout_at(task, plan, index) writes_left(task, plan) places_to_spare(task)
+        lost_amid(task, plan, index) task_from(task, plan, index) back_plan(task, plan, index)
+        lost_task(task, place)""",
 }
 CLASSES = {
     ("store", "Store"): """__init__(task, plan) __eq__(other) write(place) spoil(place) cut() lose(place) mark() turn()
         undo() twin()""",
+    ("book", "Book"): """__init__(task) __eq__(other) add_place() set_wish(place, item) set_need(value, need)
+        go_on(stretch) promise(thing) undo() free(index) task() promises() twin()""",
 }
+
+ORDER = (
+    "errors forms layouts texts reader parts changes store views judge lookalikes rows writes fewest asides groups "
+    "fronts groupplans once charging bars sides ranks sumplans fewsums openings twolots fullplans losses prices wear "
+    "anew fromhere book"
+).split()
 
 
 def split(listed):
@@ -56,6 +86,19 @@ class Interface(unittest.TestCase):
                 found = getattr(importlib.import_module("whilemoved." + module), name)
                 self.assertEqual(found.__module__, "whilemoved." + module)
                 self.assertEqual(list(inspect.signature(found).parameters), given, name)
+
+    def test_a_module_uses_those_above_it(self):
+        for at, module in enumerate(ORDER):
+            found = importlib.import_module("whilemoved." + module)
+            for thing in vars(found).values():
+                if inspect.isfunction(thing) or inspect.isclass(thing):
+                    words = thing.__module__.split(".")
+                    if words[0] == "whilemoved":
+                        self.assertIn(words[1], ORDER[:at + 1], (module, thing.__name__))
+
+    def test_all_modules_are_listed(self):
+        told = sorted(set(FUNCTIONS) | {module for module, _ in CLASSES} | {"errors"})
+        self.assertEqual(told, sorted(ORDER))
 
     def test_classes(self):
         for (module, name), listed in CLASSES.items():

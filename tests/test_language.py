@@ -25,8 +25,9 @@ STATEMENTS = (
 BUILT_IN = tuple([name for name in dir(builtins) if name != "_"])
 BARRED = (
     ast.GeneratorExp, ast.Set, ast.SetComp, ast.Div, ast.NamedExpr, ast.Lambda, ast.Starred, ast.Yield, ast.YieldFrom,
-    ast.AnnAssign, ast.Pow, ast.Mod,
+    ast.AnnAssign, ast.Pow,
 )
+LIBRARY = {"itertools": ["combinations"]}
 
 
 def files():
@@ -83,7 +84,7 @@ class Language(unittest.TestCase):
                     self.assertNotIsInstance(node.value, float, name)
 
     def test_imports_are_of_modules_above(self):
-        known = {}
+        known = dict(LIBRARY)
         names = {name: tree for name, tree in trees()}
         waiting = dict(names)
         while waiting:
@@ -131,6 +132,26 @@ class Language(unittest.TestCase):
                 if isinstance(node, ast.Call) and isinstance(node.func, ast.Attribute):
                     if node.func.attr in ("items", "keys", "values"):
                         self.assertIn(node, good, (name, node.lineno))
+
+    def test_library(self):
+        for name, tree in trees():
+            heads = [node.iter for node in ast.walk(tree) if isinstance(node, (ast.For, ast.comprehension))]
+            for node in ast.walk(tree):
+                if isinstance(node, ast.Name) and node.id in LIBRARY["itertools"]:
+                    called = [head.func for head in heads if isinstance(head, ast.Call)]
+                    self.assertIn(node, called, (name, node.lineno))
+
+    def test_ranges_are_not_passed_on(self):
+        for name, tree in trees():
+            good = [node.iter for node in ast.walk(tree) if isinstance(node, (ast.For, ast.comprehension))]
+            good.extend([node.value for node in ast.walk(tree) if isinstance(node, ast.Assign)])
+            calls = [node for node in ast.walk(tree) if isinstance(node, ast.Call) and isinstance(node.func, ast.Name)]
+            for node in calls:
+                if node.func.id in ("list", "tuple", "sorted", "enumerate", "zip", "reversed"):
+                    good.extend(node.args)
+            for node in calls:
+                if node.func.id in ("range", "zip", "enumerate", "reversed"):
+                    self.assertIn(node, good, (name, node.lineno))
 
     def test_words(self):
         for name, _ in trees():

@@ -61,7 +61,7 @@ class NotEven(MoveError):
     """The task is not even."""
 
     def __init__(self):
-        MoveError.__init__(self)
+        pass
 
 
 class NeedsMore(MoveError):
@@ -75,7 +75,7 @@ class NotFull(MoveError):
     """The linear task is not full."""
 
     def __init__(self):
-        MoveError.__init__(self)
+        pass
 
 
 class NoNew(MoveError):
@@ -124,4 +124,4 @@ class Nothing(MoveError):
     """There is nothing to do this with."""
 
     def __init__(self):
-        MoveError.__init__(self)
+        pass
